@@ -6,7 +6,7 @@ from fieldplan.fields import Field, Kind, has_key, is_leaf
 from fieldplan.literals import read_literal
 from fieldplan.reader import Reader, number_of
 from fieldplan.signs import (BIT, CHOICE_END, CHOICE_START, DIGIT_0, EQUALS, MODE_KEYED, MODE_ONE, RECORD_END,
-                             RECORD_START, SEPARATOR, WHOLE, is_leaf_sign, is_letter, is_mode)
+                             RECORD_START, SEPARATOR, WHOLE, is_leaf_sign, is_letter, is_mode, is_name_sign)
 
 MOST_BYTES = 2000
 MOST_DEPTH = 6
@@ -28,6 +28,13 @@ def read_schema(text):
     if reader.place < len(text):
         raise Fault(MALFORMED, reader.place)
     return schema
+
+
+def schema_or_none(text):
+    try:
+        return read_schema(text)
+    except Fault:
+        return None
 
 
 def read_group(reader, depth):
@@ -80,12 +87,18 @@ def short_number(digits):
 def read_name(reader, group):
     start = reader.place
     name = reader.take_name_signs()
-    if len(name) == 0 or len(name) > MOST_NAME_SIGNS or not is_letter(name[0]):
+    if not is_name(name):
         raise Fault(MALFORMED, start)
     for field in group.fields:
         if field.name == name:
             raise Fault(NAME_TWICE, start)
     return name
+
+
+def is_name(text):
+    if len(text) == 0 or len(text) > MOST_NAME_SIGNS or not is_letter(text[0]):
+        return False
+    return all([is_name_sign(sign) for sign in text])
 
 
 def read_mode(reader, group):

@@ -1,12 +1,25 @@
 """Reading literals. The place of each fault of a literal is the place at which the literal begins."""
 
 from fieldplan.faults import MALFORMED, OUT_OF_RANGE, Fault
-from fieldplan.reader import number_of
+from fieldplan.fields import is_leaf
+from fieldplan.reader import Reader, number_of
 from fieldplan.signs import (BACKSLASH, BIT, DIGIT_0, DIGIT_1, LETTER_A, LETTER_F, MINUS, QUOTE, WHOLE, is_digit,
                              stands_as_itself)
 
 # no number in the range of a kind has more digits, so longer runs are not reckoned out
 MOST_DIGITS = 19
+
+
+def literal_or_none(text, kind):
+    """The value of the literal of this kind that the whole text is; None if it is none, and for a group."""
+    if not is_leaf(kind):
+        return None
+    reader = Reader(text)
+    try:
+        value = read_literal(reader, kind)
+    except Fault:
+        return None
+    return value if reader.place == len(text) else None
 
 
 def read_literal(reader, kind):

@@ -1,22 +1,13 @@
-"""What each call answers, as a list: its numbers, or its refusal alone."""
+"""What each call that changes nothing answers, and hold, as a list: its numbers, or its refusal alone."""
 
 from fieldplan.columns import columns_of
 from fieldplan.faults import Fault
 from fieldplan.finding import dotted_name, fields_by_names, fields_by_path, split_names
 from fieldplan.grammar import read_schema
+from fieldplan.refusals import NO_COLUMN, NO_FIELD, NO_SCHEMA
+from fieldplan.shapes import shape_of_group
 from fieldplan.signs import BIT, WHOLE
-
-NO_SCHEMA = -1
-NO_COLUMN = -3
-NO_FIELD = -4
-
-
-class Holder:
-    """The object that the calls are made on: a schema and its text, or None and no text."""
-
-    def __init__(self):
-        self.schema = None
-        self.text = []
+from fieldplan.writing import write_kind
 
 
 def reply_check(text):
@@ -29,11 +20,9 @@ def reply_check(text):
 
 def reply_hold(holder, text):
     try:
-        schema = read_schema(text)
+        holder.hold_text(text)
     except Fault:
         return [NO_SCHEMA]
-    holder.schema = schema
-    holder.text = text
     return [0]
 
 
@@ -78,3 +67,11 @@ def reply_name(holder, path):
         return [NO_FIELD]
     name = dotted_name(along)
     return [len(name)] + name
+
+
+def reply_keep(holder, numbers):
+    columns = columns_of(holder.schema)
+    if len(numbers) == 0 or min(numbers) < 0 or max(numbers) >= len(columns):
+        return [NO_COLUMN]
+    text = write_kind(shape_of_group(holder.schema, [columns[number].path for number in numbers]))
+    return [len(text)] + text

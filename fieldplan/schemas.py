@@ -1,7 +1,10 @@
 """The way in: a list of calls on one new object, and the list of their answers."""
 
-from fieldplan.replies import (Holder, reply_check, reply_column, reply_columns, reply_find, reply_hold, reply_name,
-                               reply_show)
+from fieldplan.changes import reply_add, reply_default, reply_drop, reply_rekind, reply_remode, reply_rename
+from fieldplan.holder import Holder
+from fieldplan.refusals import NOTHING_HELD
+from fieldplan.replies import (reply_check, reply_column, reply_columns, reply_find, reply_hold, reply_keep,
+                               reply_name, reply_show)
 
 CHECK = 0
 HOLD = 1
@@ -9,12 +12,17 @@ SHOW = 2
 COLUMNS = 3
 COLUMN = 4
 FIND = 5
+NAME = 6
+ADD = 7
+DROP = 8
+RENAME = 9
+REMODE = 10
+REKIND = 11
+DEFAULT = 12
 
 # of each call, by its number, how many whole numbers and how many rows it is handed
-NUMBERS_HANDED = (0, 0, 0, 0, 1, 0, 0)
-ROWS_HANDED = (1, 1, 0, 0, 0, 1, 1)
-
-NOTHING_HELD = -2
+NUMBERS_HANDED = (0, 0, 0, 0, 1, 0, 0, 0, 0, 0, 1, 0, 0, 0)
+ROWS_HANDED = (1, 1, 0, 0, 0, 1, 1, 2, 1, 2, 1, 2, 2, 1)
 
 
 class Calls:
@@ -68,6 +76,12 @@ def answer_call(holder, call, handed):
         return reply_hold(holder, handed[0])
     if holder.schema is None:
         return [NOTHING_HELD]
+    if ADD <= call <= DEFAULT:
+        return answer_change(holder, call, handed)
+    return answer_question(holder, call, handed)
+
+
+def answer_question(holder, call, handed):
     if call == SHOW:
         return reply_show(holder)
     if call == COLUMNS:
@@ -76,4 +90,20 @@ def answer_call(holder, call, handed):
         return reply_column(holder, handed[0])
     if call == FIND:
         return reply_find(holder, handed[0])
-    return reply_name(holder, handed[0])
+    if call == NAME:
+        return reply_name(holder, handed[0])
+    return reply_keep(holder, handed[0])
+
+
+def answer_change(holder, call, handed):
+    if call == ADD:
+        return reply_add(holder, handed[0], handed[1])
+    if call == DROP:
+        return reply_drop(holder, handed[0])
+    if call == RENAME:
+        return reply_rename(holder, handed[0], handed[1])
+    if call == REMODE:
+        return reply_remode(holder, handed[0], handed[1])
+    if call == REKIND:
+        return reply_rekind(holder, handed[0], handed[1])
+    return reply_default(holder, handed[0], handed[1])

@@ -50,6 +50,14 @@ def is_mode(sign):
     return sign in (MODE_ONE, MODE_PERHAPS, MODE_MANY, MODE_KEYED)
 
 
+def mode_by_number(number):
+    """The sign of the mode that a call tells by its number; NO_SIGN if no mode has this number."""
+    modes = (MODE_ONE, MODE_PERHAPS, MODE_MANY, MODE_KEYED)
+    if 0 <= number < len(modes):
+        return modes[number]
+    return NO_SIGN
+
+
 def is_leaf_sign(sign):
     return sign in (BIT, WHOLE, TEXT)
 

@@ -45,6 +45,34 @@ def name(path):
     return [6] + row(path)
 
 
+def add(path, text):
+    return [7] + row(path) + row(signs(text))
+
+
+def drop(path):
+    return [8] + row(path)
+
+
+def rename(path, text):
+    return [9] + row(path) + row(signs(text))
+
+
+def remode(number, path):
+    return [10, number] + row(path)
+
+
+def rekind(path, text):
+    return [11] + row(path) + row(signs(text))
+
+
+def default(path, text):
+    return [12] + row(path) + row(signs(text))
+
+
+def keep(numbers):
+    return [13] + row(numbers)
+
+
 def ask(*calls):
     """The answers to these calls on one new object, a list for each call."""
     handed = [number for call in calls for number in call]
@@ -67,6 +95,11 @@ def split_answers(given, count):
     if place != len(given) or len(told) != count:
         raise AssertionError(f"not {count} answers: {given!r}")
     return told
+
+
+def shown(text):
+    """What show and keep answer where the text is this one."""
+    return row(signs(text))
 
 
 def fault(text):

@@ -2,11 +2,7 @@
 
 import unittest
 
-from tests.asking import EXAMPLE, ask, check, column, columns, find, hold, name, show, signs, with_length
-
-
-def shown(text):
-    return [len(text)] + signs(text)
+from tests.asking import EXAMPLE, ask, check, column, columns, find, hold, name, show, shown, signs, with_length
 
 
 class HoldAndShow(unittest.TestCase):
